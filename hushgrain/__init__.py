@@ -1,0 +1,1 @@
+"""Hushgrain: a query server that answers as precisely as its secrets allow."""
