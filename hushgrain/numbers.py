@@ -13,6 +13,11 @@ def gcd_of(numbers):
     return common
 
 
+def is_multiple(number, divisor):
+    """Tell whether the number is a multiple of the divisor; only 0 is one of 0."""
+    return number == 0 if divisor == 0 else number % divisor == 0
+
+
 def divisors(number):
     """Return the divisors of an integer from 1 on, as an ascending tuple."""
     small = [k for k in range(1, isqrt(number) + 1) if number % k == 0]
@@ -38,3 +43,19 @@ def add_fractions(one, other):
 def multiply_fractions(one, other):
     """Return the product of two fractions."""
     return fraction(one[0] * other[0], one[1] * other[1])
+
+
+def bezout(one, other):
+    """Return (g, s, t): the greatest common divisor g, from 0 on, with g = s * one + t * other."""
+    common, behind = one, other
+    left, left_behind = 1, 0
+    while behind:
+        quotient, rest = divmod(common, behind)
+        common, behind = behind, rest
+        left, left_behind = left_behind, left - quotient * left_behind
+    if common < 0:
+        common, left = -common, -left
+    right = 0
+    if other:
+        right = (common - left * one) // other
+    return common, left, right

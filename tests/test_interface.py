@@ -1,5 +1,6 @@
 import importlib
 import inspect
+import types
 import unittest
 
 LANDED = {
@@ -16,6 +17,48 @@ LANDED = {
         "add_forms(one, other)",
         "scale_form(factor, form)",
     ],
+    "lattice": [
+        "hermite(rows, size)",
+        "whole(size)",
+        "is_basis(thing, size)",
+        "coordinates(basis, vector)",
+        "contains(basis, vector)",
+        "includes(basis, other)",
+        "join_of(one, other, size)",
+        "meet_of(one, other, size)",
+        "grain_of(basis, form)",
+        "solve(basis, form, value)",
+        "restrict(basis, form, modulus)",
+        "image_of(basis, matrix, size)",
+        "preimage_of(basis, matrix)",
+        "project(basis, columns)",
+        "saturation(basis, size)",
+        "class_count(basis, other)",
+    ],
+    "knowledge": ["Knowledge(size, observations=())"],
+    "witnesses": [
+        "known_witness(knowledge, form)",
+        "world_witness(knowledge, form, amount)",
+        "is_known_witness(knowledge, form, grain, thing)",
+        "is_world_witness(knowledge, form, amount, thing)",
+    ],
+}
+
+METHODS = {
+    ("knowledge", "Knowledge"): [
+        "size()",
+        "observations()",
+        "basis()",
+        "grain(form)",
+        "follows(form, modulus)",
+        "observe(form, modulus)",
+        "joined(other)",
+        "knows(other)",
+        "spare()",
+        "about(cells)",
+        "__len__()",
+        "__eq__(other)",
+    ],
 }
 
 
@@ -28,6 +71,15 @@ class InterfaceTest(unittest.TestCase):
                 thing = getattr(module, name)
                 self.assertEqual(thing.__module__, module.__name__)
                 self.assertEqual(name + str(inspect.signature(thing)), signature)
+
+    def test_methods_and_arguments(self):
+        for (file, name), signatures in METHODS.items():
+            made = getattr(importlib.import_module("hushgrain." + file), name)
+            for signature in signatures:
+                method = vars(made)[signature[:signature.index("(")]]
+                self.assertIsInstance(method, types.FunctionType)
+                shown = str(inspect.signature(method)).replace("(self, ", "(").replace("(self)", "()")
+                self.assertEqual(method.__name__ + shown, signature)
 
     def test_errors_stand_in_their_file(self):
         module = importlib.import_module("hushgrain.errors")

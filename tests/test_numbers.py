@@ -3,7 +3,9 @@ from fractions import Fraction
 from itertools import product
 
 from hushgrain.errors import HushError, ZeroBottom
-from hushgrain.numbers import add_fractions, divisors, fraction, gcd_of, multiply_fractions
+from hushgrain.numbers import (
+    add_fractions, bezout, divisors, fraction, gcd_of, is_multiple, multiply_fractions,
+)
 
 SMALL = [fraction(top, bottom) for top in range(-4, 5) for bottom in range(1, 7)]
 
@@ -152,6 +154,23 @@ class ArithmeticTest(unittest.TestCase):
         one = [1, 2]
         self.assertEqual(add_fractions(one, one), (1, 1))
         self.assertEqual(multiply_fractions(one, one), (1, 4))
+
+
+class HelpersTest(unittest.TestCase):
+    def test_is_multiple(self):
+        for number in range(-12, 13):
+            self.assertIs(is_multiple(number, 0), number == 0)
+            for divisor in range(1, 8):
+                wanted = any(divisor * factor == number for factor in range(-12, 13))
+                self.assertIs(is_multiple(number, divisor), wanted)
+                self.assertIs(is_multiple(number, -divisor), wanted)
+
+    def test_bezout(self):
+        large = [10 ** 299 + 7, -(6 ** 380), 2 ** 900]
+        for one, other in product(list(range(-12, 13)) + large, repeat=2):
+            common, left, right = bezout(one, other)
+            self.assertEqual(common, gcd_of((one, other)))
+            self.assertEqual(left * one + right * other, common)
 
 
 if __name__ == "__main__":
