@@ -36,14 +36,9 @@ def coordinates(basis, vector):
     rest = list(vector)
     for row in basis:
         column = _pivot_column(row)
-        quotient, left = divmod(rest[column], row[column])
-        if left:
-            return None
-        rest = _less(rest, quotient, row)
-        factors.append(quotient)
-    if any(rest):
-        return None
-    return tuple(factors)
+        factors.append(rest[column] // row[column])
+        rest = _less(rest, factors[-1], row)
+    return None if any(rest) else tuple(factors)
 
 
 def contains(basis, vector):

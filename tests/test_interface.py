@@ -42,6 +42,18 @@ LANDED = {
         "is_known_witness(knowledge, form, grain, thing)",
         "is_world_witness(knowledge, form, amount, thing)",
     ],
+    "guards": [
+        "holds(guard)",
+        "keep_witness(guard)",
+        "is_safe(guards, form, modulus)",
+        "safe_divisors(guards, form, bound)",
+        "finest_modulus(guards, form, bound)",
+        "break_of(guards, form, modulus)",
+        "is_break(guards, form, modulus, thing)",
+    ],
+    "tables": ["Tables()"],
+    "lexer": ["tokens(text)"],
+    "parser": ["parse(text)", "written(query)"],
 }
 
 METHODS = {
@@ -57,6 +69,21 @@ METHODS = {
         "spare()",
         "about(cells)",
         "__len__()",
+        "__eq__(other)",
+    ],
+    ("tables", "Tables"): [
+        "cells()",
+        "day()",
+        "add_table(name, tags, closed)",
+        "add_row(table, tags)",
+        "remove_row(table, row)",
+        "set_tag(table, row, column, tag)",
+        "shift(table, row, column, amount)",
+        "change(table, row, column)",
+        "next_day()",
+        "rows(table, day=None)",
+        "schema(table)",
+        "copy()",
         "__eq__(other)",
     ],
 }
