@@ -23,3 +23,15 @@ def add_forms(one, other):
 def scale_form(factor, form):
     """Return the multiple, entry by entry."""
     return tuple([factor * weight for weight in form])
+
+
+def padded(form, size):
+    """Return the form with the weight 0 for every cell that it lacks."""
+    return tuple(form) + (0,) * (size - len(form))
+
+
+def moved(form, old, new):
+    """Return the form with the weight of the old cell at the new one instead."""
+    weights = list(form)
+    weights[new], weights[old] = weights[old], 0
+    return tuple(weights)

@@ -5,7 +5,7 @@ from hushgrain.forms import dot
 from hushgrain.lattice import hermite
 from hushgrain.numbers import divisors, gcd_of, is_multiple
 from hushgrain.things import is_integer
-from hushgrain.witnesses import is_known_witness, known_witness, world_witness
+from hushgrain.witnesses import is_known_witness, is_world_witness, known_witness, world_witness
 
 
 def holds(guard):
@@ -51,15 +51,36 @@ def break_of(guards, form, modulus):
 
 def is_break(guards, form, modulus, thing):
     """Tell whether the thing shows that the modulus breaks a guard."""
-    if not isinstance(thing, tuple) or len(thing) != 3:
+    if not points_at(guards, thing):
         return False
     index, grain, witness = thing
-    if not is_integer(index) or not 0 <= index < len(guards):
-        return False
     knowledge, secret, margin = guards[index]
+    return exposes((knowledge.observe(form, modulus), secret, margin), grain, witness)
+
+
+def points_at(guards, thing):
+    """Tell whether the thing is a tuple of three things, the first one the index of a guard."""
+    if not isinstance(thing, tuple) or len(thing) != 3 or not is_integer(thing[0]):
+        return False
+    return 0 <= thing[0] < len(guards)
+
+
+def exposes(guard, grain, witness):
+    """Tell whether the witness shows that the guard, with this grain, does not hold."""
+    knowledge, secret, margin = guard
     if not is_integer(grain) or grain < 0 or is_multiple(margin, grain):
         return False
-    return is_known_witness(knowledge.observe(form, modulus), secret, grain, witness)
+    return is_known_witness(knowledge, secret, grain, witness)
+
+
+def are_keep_witnesses(guards, thing):
+    """Tell whether the thing is a tuple with a vector for every guard that keeps its secret."""
+    if not isinstance(thing, tuple) or len(thing) != len(guards):
+        return False
+    return all([
+        is_world_witness(knowledge, secret, margin, part)
+        for (knowledge, secret, margin), part in zip(guards, thing)
+    ])
 
 
 def _prospect(guard, form):

@@ -46,18 +46,27 @@ class Tables:
 
     def add_row(self, table, tags):
         """Add a row with new cells; return its id."""
-        declared, closed = self.schema(table)
-        kinds = [kind for _, kind in declared]
-        for position in range(max(len(kinds), len(tags))):
-            if position >= len(kinds) or position >= len(tags):
-                raise BadTags(position)
-            if not is_tag(tags[position], kinds[position]):
-                raise BadTags(position)
+        self.check_row(table, tags)
+        closed = self._schemas[table][1]
         self._check_cells(len(closed))
         row = self._next_ids[table]
         self._next_ids[table] = row + 1
         self._rows[table][row] = (tuple(tags), tuple([self._new_entry() for _ in closed]))
         return row
+
+    def check_row(self, table, tags):
+        """Raise what add_row raises, but for the number of cells."""
+        kinds = [kind for _, kind in self.schema(table)[0]]
+        for position in range(max(len(kinds), len(tags))):
+            if position >= len(kinds) or position >= len(tags):
+                raise BadTags(position)
+            if not is_tag(tags[position], kinds[position]):
+                raise BadTags(position)
+
+    def check_entry(self, table, row, column):
+        """Raise what change raises, but for the number of cells."""
+        self._row(table, row)
+        _place(column, self._schemas[table][1])
 
     def remove_row(self, table, row):
         """Remove a row; its id is not used again."""
@@ -82,8 +91,9 @@ class Tables:
 
     def change(self, table, row, column):
         """Replace an entry by a new cell; return the old cell and the new one."""
-        tags, entries = self._row(table, row)
-        place = _place(column, self._schemas[table][1])
+        self.check_entry(table, row, column)
+        tags, entries = self._rows[table][row]
+        place = self._schemas[table][1].index(column)
         self._check_cells(1)
         entry = self._new_entry()
         self._rows[table][row] = (tags, _replaced(entries, place, entry))

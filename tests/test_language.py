@@ -31,6 +31,7 @@ UNUSED = set(
     " type vars sys __class__ __name__".split()
 )
 KEPT_APART = {"zip", "enumerate", "reversed", "range"}
+PRODUCTS = {"product", "combinations", "permutations"}
 TAKERS = {"list", "tuple", "dict", "sorted", "sum", "any", "all", "enumerate", "zip", "min", "max", "len"}
 
 
@@ -144,13 +145,58 @@ class LanguageTest(unittest.TestCase):
 
     def test_statements_that_the_program_does_without(self):
         barred = (
-            ast.Try, ast.Global, ast.AsyncFunctionDef, ast.Yield, ast.YieldFrom, ast.GeneratorExp,
-            ast.Set, ast.SetComp, ast.Lambda, ast.With, ast.Match, ast.NamedExpr, ast.AnnAssign,
+            ast.Global, ast.AsyncFunctionDef, ast.Yield, ast.YieldFrom, ast.GeneratorExp,
+            ast.Set, ast.SetComp, ast.With, ast.Match, ast.NamedExpr, ast.AnnAssign,
         )
         for name, node in self.nodes():
             self.assertNotIsInstance(node, barred, (name, getattr(node, "lineno", 0)))
             if isinstance(node, (ast.FunctionDef, ast.ClassDef)):
                 self.assertEqual(node.decorator_list, [], name)
+
+    def test_only_own_errors_are_caught(self):
+        own = {node.name for name, node in self.nodes() if name == "errors.py" and isinstance(node, ast.ClassDef)}
+        for name, node in self.nodes():
+            if isinstance(node, ast.Try):
+                self.assertEqual(node.finalbody, [], name)
+            elif isinstance(node, ast.ExceptHandler):
+                self.assertIsNone(node.name, name)
+                self.assertIn(node.type.id, own, name)
+
+    def test_errors_are_made_where_they_are_raised(self):
+        own = {node.name for name, node in self.nodes() if name == "errors.py" and isinstance(node, ast.ClassDef)}
+        for name, node in self.nodes():
+            if isinstance(node, ast.Raise):
+                self.assertIn(called(node.exc), own, (name, node.lineno))
+
+    def test_no_lambda_in_a_comprehension_and_no_two_on_a_line(self):
+        lines = []
+        for name, node in self.nodes():
+            if isinstance(node, (ast.ListComp, ast.DictComp)):
+                self.assertFalse([part for part in ast.walk(node) if isinstance(part, ast.Lambda)], name)
+            elif isinstance(node, ast.Lambda):
+                lines.append((name, node.lineno))
+        self.assertEqual(len(lines), len(set(lines)))
+
+    def test_sets_stand_in_sorted_and_len_alone(self):
+        for path in FILES:
+            tree = ast.parse(path.read_text("utf-8"))
+            allowed = []
+            for node in ast.walk(tree):
+                if called(node) in ("sorted", "len") and not node.keywords:
+                    allowed.extend(node.args)
+            for node in ast.walk(tree):
+                if called(node) == "set":
+                    self.assertTrue(any(node is other for other in allowed), (path.name, node.lineno))
+
+    def test_methods_of_builtin_values_have_no_keywords(self):
+        for name, node in self.nodes():
+            if isinstance(node, ast.Call) and isinstance(node.func, ast.Attribute) and node.func.attr in METHODS:
+                self.assertEqual(node.keywords, [], (name, node.lineno))
+
+    def test_tables_of_functions_are_called_by_a_name(self):
+        for name, node in self.nodes():
+            if isinstance(node, ast.Call):
+                self.assertIsInstance(node.func, (ast.Name, ast.Attribute), (name, node.lineno))
 
     def test_what_is_iterated_at_once(self):
         for path in FILES:
@@ -159,7 +205,7 @@ class LanguageTest(unittest.TestCase):
             for node in ast.walk(tree):
                 if isinstance(node, (ast.For, ast.comprehension)):
                     allowed.append(node.iter)
-                elif called(node) in TAKERS or called(node) == "reversed":
+                elif called(node) in TAKERS | PRODUCTS or called(node) == "reversed":
                     allowed.extend(node.args)
             for node in ast.walk(tree):
                 if called(node) in KEPT_APART:
