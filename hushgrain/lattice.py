@@ -21,7 +21,7 @@ def is_basis(thing, size):
         return False
     last = -1
     for index, row in enumerate(thing):
-        column = _pivot_column(row)
+        column = pivot_column(row)
         if column == size or column <= last or row[column] < 0:
             return False
         if not all([0 <= above[column] < row[column] for above in thing[:index]]):
@@ -35,7 +35,7 @@ def coordinates(basis, vector):
     factors = []
     rest = list(vector)
     for row in basis:
-        column = _pivot_column(row)
+        column = pivot_column(row)
         factors.append(rest[column] // row[column])
         rest = _less(rest, factors[-1], row)
     return None if any(rest) else tuple(factors)
@@ -126,10 +126,10 @@ def class_count(basis, other):
     if len(other) < len(basis):
         return 0
     # Lattices of one span have the same pivot columns.
-    return _pivot_product(other) // _pivot_product(basis)
+    return pivot_product(other) // pivot_product(basis)
 
 
-def _pivot_column(row):
+def pivot_column(row):
     """Return the index of the first entry that is not 0, the length if there is none."""
     column = 0
     while column < len(row) and row[column] == 0:
@@ -137,11 +137,11 @@ def _pivot_column(row):
     return column
 
 
-def _pivot_product(basis):
+def pivot_product(basis):
     """Return the product of the pivots."""
     product = 1
     for row in basis:
-        product *= row[_pivot_column(row)]
+        product *= row[pivot_column(row)]
     return product
 
 

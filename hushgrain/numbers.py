@@ -25,6 +25,25 @@ def divisors(number):
     return tuple(small + large)
 
 
+def prime_powers(number, largest):
+    """Return the list of (p, q) for the primes p up to `largest` that divide a number from 1 on.
+
+    q is the greatest power of p that divides it. What is left of the number, if it is not 1,
+    comes last in the place of both.
+    """
+    found = []
+    for factor in range(2, largest + 1):
+        power = 1
+        while number % factor == 0:
+            number //= factor
+            power *= factor
+        if power > 1:
+            found.append((factor, power))
+    if number > 1:
+        found.append((number, number))
+    return found
+
+
 def fraction(top, bottom=1):
     """Return top / bottom in lowest terms, as a tuple (top, bottom) with bottom from 1 on."""
     if bottom == 0:

@@ -94,6 +94,10 @@ def changed_places(thing):
         for place, part in enumerate(thing):
             for other in changed_places(part):
                 yield thing[:place] + (other,) + thing[place + 1:]
+    elif isinstance(thing, str):
+        for other in (thing + " ", thing[:-1], thing.upper(), None, True, 0, (thing,), [thing]):
+            if other != thing:
+                yield other
     else:
         for other in (thing + 1, thing - 1, -thing, bool(thing), str(thing), None, (thing,), [thing]):
             if repr(other) != repr(thing):

@@ -54,6 +54,43 @@ LANDED = {
     "tables": ["Tables()"],
     "lexer": ["tokens(text)"],
     "parser": ["parse(text)", "written(query)"],
+    "compiler": ["compiled(query, tables)", "evaluated(query, tables, world)"],
+    "house": ["House(*, modulus=5040)"],
+    "audit": ["audit(policy, history)", "audit_paper(policy, history)", "paper_holds(policy, history, thing)"],
+    "wishes": [
+        "is_grantable(house, wishes, chosen)",
+        "maximal_sets(house, wishes)",
+        "conflicts(house, wishes)",
+        "best_set(house, wishes, values)",
+        "grant_witness(house, wishes, chosen)",
+        "conflict_witness(house, wishes, chosen)",
+        "is_grant_witness(house, wishes, chosen, thing)",
+        "is_conflict_witness(house, wishes, chosen, thing)",
+    ],
+    "represent": [
+        "represented(basis, word, size)",
+        "basis_of(representation, size)",
+        "is_representation(thing, size)",
+        "observed(representation, form, modulus, size)",
+        "grain_in(representation, form, size)",
+        "Engine(word, size)",
+    ],
+    "reshape": [
+        "pulled(form, matrix)",
+        "refined(knowledge, matrix)",
+        "carried_witness(witness, matrix)",
+        "split_matrix(size, cell, parts)",
+        "unit_matrix(size, cell, factor)",
+        "order_matrix(places)",
+        "matrix_product(first, second)",
+        "is_forgetting(matrix, size)",
+        "forgotten(basis, matrix, size)",
+        "surviving(form, matrix, size)",
+        "join_matrix(size, cells)",
+        "drop_matrix(size, cell)",
+        "observations_for(basis, size)",
+    ],
+    "desk": ["Desk(*, modulus=5040)"],
 }
 
 METHODS = {
@@ -86,6 +123,50 @@ METHODS = {
         "copy()",
         "__eq__(other)",
     ],
+    ("house", "House"): [
+        "add_table(name, tags, closed)",
+        "add_row(table, tags, values)",
+        "remove_row(table, row)",
+        "set_tag(table, row, column, tag)",
+        "shift(table, row, column, amount)",
+        "change(table, row, column, value)",
+        "next_day()",
+        "tables()",
+        "world()",
+        "add_reader(name)",
+        "readers()",
+        "add_group(readers)",
+        "drop_group(readers)",
+        "groups()",
+        "knowledge(readers)",
+        "add_secret(name, query, margin, cleared=())",
+        "drop_secret(name)",
+        "clear(name, reader)",
+        "unclear(name, reader)",
+        "secrets()",
+        "guards()",
+        "ask(reader, query)",
+        "would(reader, query)",
+        "publish(query)",
+        "transcript(readers)",
+        "why(reader, query, modulus)",
+        "history()",
+        "policy()",
+        "reserve(reader, form)",
+        "release(number)",
+        "reservations()",
+        "copy()",
+    ],
+    ("represent", "Engine"): [
+        "observe(form, modulus)",
+        "grain(form)",
+        "basis()",
+        "state()",
+        "switch(word)",
+        "copy()",
+        "__eq__(other)",
+    ],
+    ("desk", "Desk"): ["tell(line)", "house()"],
 }
 
 
@@ -107,6 +188,13 @@ class InterfaceTest(unittest.TestCase):
                 self.assertIsInstance(method, types.FunctionType)
                 shown = str(inspect.signature(method)).replace("(self, ", "(").replace("(self)", "()")
                 self.assertEqual(method.__name__ + shown, signature)
+
+    def test_houses_and_desks_are_compared_by_identity(self):
+        for file, name in (("house", "House"), ("desk", "Desk")):
+            made = getattr(importlib.import_module("hushgrain." + file), name)
+            self.assertNotIn("__eq__", vars(made))
+            one, other = made(), made()
+            self.assertTrue(one == one and one != other)
 
     def test_errors_stand_in_their_file(self):
         module = importlib.import_module("hushgrain.errors")
