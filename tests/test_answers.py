@@ -2,6 +2,7 @@
 
 import random
 import unittest
+from fractions import Fraction
 
 import model
 from hushgrain.compiler import compiled, evaluated
@@ -12,9 +13,9 @@ from hushgrain.guards import keep_witness
 from hushgrain.house import House
 from hushgrain.knowledge import Knowledge
 from hushgrain.parser import parse, written
-from hushgrain.witnesses import is_known_witness, is_world_witness
+from hushgrain.witnesses import is_known_witness, is_world_witness, known_witness, world_witness
 from houses import play, played, random_values, sample, script, state
-from support import divides, frozen, value
+from support import divides, frozen, random_vector, value
 
 ONE = "select sum(pay) from staff where id = 1"
 TWO = "select sum(pay) from staff where id = 2"
@@ -262,6 +263,35 @@ class FinestTest(AnswersTest):
                 self.assertTrue(Knowledge(size, observations) == house.knowledge([reader]))
 
 
+    def test_requests_in_another_order(self):
+        chance = random.Random(14)
+        texts = ("x + y", "x - y", "2 * y", "3 * x + y", "y", "6 * x", "5 - x")
+        other_moduli = 0
+        for _ in range(30):
+            houses = []
+            chosen = chance.sample(texts, 4)
+            for order in (chosen, chosen[::-1], chance.sample(chosen, 4)):
+                house = House(modulus=60)
+                house.add_table("t", (), ("x", "y"))
+                house.add_row("t", (), (chance.randint(-99, 99), chance.randint(-99, 99)))
+                for reader in ("ann", "bob"):
+                    house.add_reader(reader)
+                house.add_secret("s", "select sum(x) from t", chance.choice((6, 6, 12)), ("bob",))
+                for text in order:
+                    house.ask("ann", f"select sum({text}) from t")
+                    house.ask("bob", f"select sum({text}) from t")
+                houses.append(house)
+            # Where all answers are exact, the order makes no difference at all.
+            self.assertTrue(houses[0].knowledge(["bob"]) == houses[1].knowledge(["bob"]) == houses[2].knowledge(["bob"]))
+            moduli = [sorted((f, m) for reader, f, m in house.history() if reader == "ann") for house in houses]
+            other_moduli += moduli[0] != moduli[1]
+            for house in houses:
+                entries = [(form, modulus) for reader, form, modulus in house.history() if reader == "ann"]
+                for order in (entries[::-1], chance.sample(entries, len(entries))):
+                    self.assertTrue(Knowledge(2, order) == house.knowledge(["ann"]))
+        self.assertGreater(other_moduli, 5)
+
+
 class PublishTest(AnswersTest):
     def test_publications(self):
         house = sample(10, readers=("ann", "bob"))
@@ -406,6 +436,34 @@ class WhyTest(AnswersTest):
         self.assertEqual(state(house), before)
 
 
+class ExactKnowledgeTest(AnswersTest):
+    def test_grains_of_all_groups(self):
+        chance = random.Random(41)
+        grains = set()
+        for _ in range(30):
+            house, _ = played(script(chance, 30), random_values(chance))
+            size = len(house.world())
+            for group in house.groups():
+                known = house.knowledge(group)
+                entries = [(form, modulus) for reader, form, modulus in house.history() if reader in ("",) + group]
+                for form in [random_vector(chance, size, 2) for _ in range(3)] + [form for form, _ in entries[:2]]:
+                    grain = known.grain(form)
+                    grains.add(grain)
+                    # The value is known up to multiples of the grain ..
+                    combined, parts = known_witness(known, form)
+                    self.assertEqual(len(parts), len(entries))
+                    total = [Fraction(grain * weight) for weight in combined]
+                    for (top, bottom), (asked, modulus) in zip(parts, entries):
+                        total = [have + Fraction(top, bottom) * weight for have, weight in zip(total, asked)]
+                        self.assertTrue(divides(grain * bottom, top * modulus))
+                    self.assertEqual(tuple(total), form)
+                    # .. and nothing more: in another world it differs by just the grain.
+                    vector = world_witness(known, form, grain)
+                    self.assertEqual(value(form, vector), grain)
+                    self.assertTrue(all(divides(modulus, value(asked, vector)) for asked, modulus in entries))
+        self.assertGreater(len(grains), 5)
+
+
 class WorldsTest(AnswersTest):
     def test_moduli_and_errors_do_not_depend_on_the_cells(self):
         chance = random.Random(31)
@@ -433,12 +491,12 @@ class WorldsTest(AnswersTest):
         chance = random.Random(32)
         guards = 0
         for _ in range(40):
-            calls, values = script(chance, 40), random_values(chance)
+            calls, values = script(chance, chance.choice((5, 20, 40))), random_values(chance)
             house, outcomes = played(calls, values)
             for name, instance, group, guard in house.guards():
                 guards += 1
                 self.check_worlds(calls, values, house, outcomes, group, guard)
-        self.assertGreater(guards, 200)
+        self.assertGreater(guards, 150)
 
     def check_worlds(self, calls, values, house, outcomes, group, guard):
         """Nobody in the group sees the difference between two worlds."""

@@ -209,6 +209,7 @@ class VerdictTest(AuditTest):
                 after = Knowledge(policy[0], known.observations() + ((form, other),))
                 self.assertTrue(is_known_witness(after, secret, grain, witness))
         self.assertIs(paper_holds(policy, history, paper), True)
+        self.assertIs(paper_holds(listed(policy), listed(history), paper), True)
 
     def test_houses(self):
         chance = random.Random(2)

@@ -1,6 +1,6 @@
 import unittest
 
-from hushgrain.forms import add_forms, dot, is_form, scale_form
+from hushgrain.forms import add_forms, dot, is_form, moved, padded, scale_form
 
 
 def sample(size, seed):
@@ -109,6 +109,17 @@ class ScaleTest(unittest.TestCase):
         form = [4, 0]
         self.assertEqual(scale_form(form=form, factor=-1), (-4, 0))
         self.assertEqual(form, [4, 0])
+
+
+class HelpersTest(unittest.TestCase):
+    def test_padded(self):
+        self.assertEqual(padded((1, -2), 4), (1, -2, 0, 0))
+        self.assertEqual(padded([1, -2], 2), (1, -2))
+        self.assertEqual(padded((0,), 1), (0,))
+
+    def test_moved(self):
+        self.assertEqual(moved((5, -2, 0), 0, 2), (0, -2, 5))
+        self.assertEqual(moved((5, -2, 0), 1, 2), (5, 0, -2))
 
 
 if __name__ == "__main__":

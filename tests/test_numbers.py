@@ -4,7 +4,7 @@ from itertools import product
 
 from hushgrain.errors import HushError, ZeroBottom
 from hushgrain.numbers import (
-    add_fractions, bezout, divisors, fraction, gcd_of, is_multiple, multiply_fractions,
+    add_fractions, bezout, divisors, fraction, gcd_of, is_multiple, multiply_fractions, prime_powers,
 )
 
 SMALL = [fraction(top, bottom) for top in range(-4, 5) for bottom in range(1, 7)]
@@ -164,6 +164,21 @@ class HelpersTest(unittest.TestCase):
                 wanted = any(divisor * factor == number for factor in range(-12, 13))
                 self.assertIs(is_multiple(number, divisor), wanted)
                 self.assertIs(is_multiple(number, -divisor), wanted)
+
+    def test_prime_powers(self):
+        self.assertEqual(prime_powers(1, 1000), [])
+        self.assertEqual(prime_powers(12, 1000), [(2, 4), (3, 3)])
+        self.assertEqual(prime_powers(997 ** 3 * 25 * 2, 1000), [(2, 2), (5, 25), (997, 997 ** 3)])
+        # What the primes up to the largest one leave over stays in one piece.
+        self.assertEqual(prime_powers(4 * 1009 * 1013, 1000), [(2, 4), (1009 * 1013, 1009 * 1013)])
+        self.assertEqual(prime_powers(30, 3), [(2, 2), (3, 3), (5, 5)])
+        for number in range(1, 500):
+            whole = 1
+            for prime, power in prime_powers(number, 500):
+                self.assertEqual([k for k in range(2, prime + 1) if prime % k == 0], [prime])
+                self.assertEqual((power % prime, number % power, number // power % prime != 0), (0, 0, True))
+                whole *= power
+            self.assertEqual(whole, number)
 
     def test_bezout(self):
         large = [10 ** 299 + 7, -(6 ** 380), 2 ** 900]
